@@ -1,0 +1,1 @@
+"""Coatrows: paints over regions of which only facts are known."""
