@@ -3,6 +3,7 @@
 The claim that a point lies in the region at an index is the number
 2 * index + 1, and its contrary is 2 * index: so numbers are ordered as claims
 are. Several claims together are one whole number, with a bit for each of them.
+A patch is told by the claims that are true of it, one about each region.
 """
 
 # For each kind of facts the two sides, of the first and of the second region,
@@ -26,6 +27,31 @@ def together(claims):
     return bits
 
 
+def numbers_in(bits):
+    """Return the claims, rising, of which one number consists."""
+    return [claim for claim in range(bits.bit_length()) if (bits >> claim) & 1]
+
+
+def number_of(claim, places):
+    """Return a claim about regions with places as a number."""
+    return 2 * places[claim[0]] + (1 if claim[1] else 0)
+
+
+def claims_about(regions, numbers):
+    """Return numbers as claims about regions."""
+    return [(regions[number // 2], (number & 1) == 1) for number in numbers]
+
+
+def numbers_of_patch(regions, patch):
+    """Return the claims about regions that are true of a patch, rising."""
+    return [2 * at + (1 if region in patch else 0) for at, region in enumerate(regions)]
+
+
+def patch_of(regions, bits):
+    """Return the patch of which claims, one about each region, are true."""
+    return [region for at, region in enumerate(regions) if (bits >> (2 * at + 1)) & 1]
+
+
 def clash(bits):
     """Tell whether claims contain one together with its contrary."""
     return (bits & (bits >> 1) & OUTSIDE) != 0
@@ -35,6 +61,21 @@ def breaking(kind, first, second):
     """Return the two claims with which a point breaks a fact about two indices."""
     side, other = BROKEN_BY[kind]
     return 2 * first + side, 2 * second + other
+
+
+def all_facts(regions):
+    """Return all facts about regions as tuples of the fact and the two claims that break it.
+
+    They stand in the order and form in which facts that follow are told.
+    """
+    told = []
+    for kind in BROKEN_BY:
+        for first, one in enumerate(regions):
+            for second, other in enumerate(regions):
+                if (first != second) if kind == "in" else (first <= second):
+                    claim, beside = breaking(kind, first, second)
+                    told.append(((kind, one, other), claim, beside))
+    return told
 
 
 def steps_of(many, pairs):

@@ -1,7 +1,8 @@
 """Facts about regions, two at a time, and what follows from them."""
 
-from coatrows.checks import check_regions
+from coatrows.checks import check_regions, places_of
 from coatrows.claims import BROKEN_BY, best_way, breaking, clash, contrary, reach_of, steps_of, together
+from coatrows.claims import all_facts, claims_about, number_of, patch_of
 from coatrows.errors import Contradiction, InvalidClaim, InvalidFact, InvalidRegion, TooMany
 
 MOST_FACTS = 1200
@@ -40,7 +41,7 @@ class Facts:
 
     def __init__(self, regions, facts):
         check_regions(regions)
-        places = {region: at for at, region in enumerate(regions)}
+        places = places_of(regions)
         check_facts(facts, places)
         pairs = [breaking(kind, places[one], places[other]) for kind, one, other in facts]
         self._regions = list(regions)
@@ -60,22 +61,17 @@ class Facts:
 
     def following(self):
         """Return all facts that follow, each once, in their order."""
-        told = []
-        for kind in BROKEN_BY:
-            for first, one in enumerate(self._regions):
-                for second, other in enumerate(self._regions):
-                    listed = (first != second) if kind == "in" else (first <= second)
-                    if listed and self._follows(kind, first, second):
-                        told.append((kind, one, other))
-        return told
+        told = all_facts(self._regions)
+        return [fact for fact, claim, beside in told if clash(self.led_to([claim, beside]))]
 
     def way(self, claim, other):
         """Return the best way from one claim to another one, None if there is none."""
         for at, told in enumerate((claim, other)):
             if not is_claim(told, self._places):
                 raise InvalidClaim(at)
-        way = best_way(self._steps, self._number(claim), 1 << self._number(other))
-        return None if way is None else self._claims(way)
+        goals = 1 << number_of(other, self._places)
+        way = best_way(self._steps, number_of(claim, self._places), goals)
+        return None if way is None else claims_about(self._regions, way)
 
     def least_patch(self, claims):
         """Return the least possible patch of which claims are true, None without one."""
@@ -85,24 +81,24 @@ class Facts:
 
     def barred(self, claims):
         """Return the way that keeps claims from being true together, None if they can be."""
-        numbers = self._numbers(claims)
+        numbers = self.numbers(claims)
         goals = together([contrary(number) for number in numbers])
         for number in numbers:
             way = best_way(self._steps, number, goals)
             if way is not None:
-                return self._claims(way)
+                return claims_about(self._regions, way)
         return None
 
     def patches(self, claims):
         """Generate all possible patches of which claims are true, rising."""
-        waiting = [(0, self._led_to(self._numbers(claims)))]
+        waiting = [(0, self.led_to(self.numbers(claims)))]
         # Claims that do not clash are true of some patch: no branch is in vain.
         while waiting:
             at, settled = waiting.pop()
             if clash(settled):
                 continue
             if at == len(self._regions):
-                yield self._patch(settled)
+                yield patch_of(self._regions, settled)
             else:
                 waiting.append((at + 1, settled | self._reach[2 * at + 1]))
                 waiting.append((at + 1, settled | self._reach[2 * at]))
@@ -116,11 +112,53 @@ class Facts:
             many = many + 1
         return many
 
+    def places(self):
+        """Return the place of each region in the order of the regions."""
+        return dict(self._places)
+
+    def steps(self):
+        """Return, for each claim, those together that it leads to by a stated fact."""
+        return list(self._steps)
+
+    def numbers(self, claims):
+        """Return claims as numbers, rising, each once, and refuse what are no claims."""
+        if not isinstance(claims, list):
+            raise InvalidClaim(None)
+        for at, claim in enumerate(claims):
+            if not is_claim(claim, self._places):
+                raise InvalidClaim(at)
+        return sorted({number_of(claim, self._places) for claim in claims})
+
+    def led_to(self, numbers):
+        """Return all claims together that ways lead to from some, these included."""
+        settled = 0
+        for number in numbers:
+            settled = settled | self._reach[number]
+        return settled
+
+    def forced(self):
+        """Return all claims together that are true of every possible patch."""
+        claims = range(len(self._reach))
+        return together([claim for claim in claims if (self._reach[contrary(claim)] >> claim) & 1])
+
+    def least_among(self, choices):
+        """Return the least possible patch of which one of several claims together is true.
+
+        Each choice contains all that ways lead to from it, and no claim with its contrary.
+        """
+        for place in range(len(self._regions)):
+            outside = self._reach[2 * place]
+            inside = self._reach[2 * place + 1]
+            lesser = sorted({choice | outside for choice in choices if not clash(choice | outside)})
+            # A choice that cannot leave the region out lies in it wherever it is true.
+            choices = lesser if lesser else sorted({choice | inside for choice in choices})
+        return patch_of(self._regions, choices[0])
+
     def __contains__(self, x):
         if not is_fact(x, self._places):
             return False
         kind, one, other = x
-        return self._follows(kind, self._places[one], self._places[other])
+        return clash(self.led_to(breaking(kind, self._places[one], self._places[other])))
 
     def __and__(self, other):
         if not isinstance(other, Facts) or self._regions != other._regions:
@@ -144,36 +182,4 @@ class Facts:
             if (self._reach[inside] >> outside) & (self._reach[outside] >> inside) & 1:
                 there = best_way(self._steps, inside, 1 << outside)
                 back = best_way(self._steps, outside, 1 << inside)
-                raise Contradiction(self._claims(there), self._claims(back))
-
-    def _follows(self, kind, first, second):
-        """Tell whether a fact about the regions at two places follows."""
-        return clash(self._led_to(breaking(kind, first, second)))
-
-    def _led_to(self, numbers):
-        """Return all claims together that ways lead to from some."""
-        settled = 0
-        for number in numbers:
-            settled = settled | self._reach[number]
-        return settled
-
-    def _number(self, claim):
-        """Return a claim as a number."""
-        return 2 * self._places[claim[0]] + (1 if claim[1] else 0)
-
-    def _numbers(self, claims):
-        """Return claims as numbers, rising, each once, and refuse what are no claims."""
-        if not isinstance(claims, list):
-            raise InvalidClaim(None)
-        for at, claim in enumerate(claims):
-            if not is_claim(claim, self._places):
-                raise InvalidClaim(at)
-        return sorted({self._number(claim) for claim in claims})
-
-    def _claims(self, numbers):
-        """Return numbers as claims."""
-        return [(self._regions[number // 2], (number & 1) == 1) for number in numbers]
-
-    def _patch(self, settled):
-        """Return the patch of which claims, one about each region, are true."""
-        return [region for at, region in enumerate(self._regions) if (settled >> (2 * at + 1)) & 1]
+                raise Contradiction(claims_about(self._regions, there), claims_about(self._regions, back))

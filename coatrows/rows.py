@@ -1,7 +1,7 @@
 """Rows of deeds, and what they leave at a point."""
 
-from coatrows.checks import LETTERS, first_wrong_name, is_index, is_name
-from coatrows.errors import InvalidColour, InvalidDeed, InvalidNumber, InvalidPatch, TooMany
+from coatrows.checks import LETTERS, check_first, first_wrong_name, is_index, is_name
+from coatrows.errors import InvalidDeed, InvalidNumber, InvalidPatch, TooMany, UnknownRegion
 
 MOST_DEEDS = 30
 
@@ -37,6 +37,21 @@ def colours_in(deed):
     if deed[0] == "wipe":
         return []
     return [deed[1], deed[2]] if deed[0] == "turn" else [deed[1]]
+
+
+def check_known(row, places):
+    """Refuse a row with a deed of a region that is none of those with places."""
+    for deed in row.deeds():
+        for region in regions_in(deed):
+            if region not in places:
+                raise UnknownRegion(region)
+
+
+def check_kinds(row, kinds):
+    """Refuse a row with a deed of another kind."""
+    for at, deed in enumerate(row.deeds()):
+        if deed[0] not in kinds:
+            raise InvalidDeed(at)
 
 
 class Row:
@@ -104,12 +119,25 @@ def shown(row, patch, first):
     wrong = first_wrong_name(patch)
     if wrong is not None:
         raise InvalidPatch(wrong)
-    if first is not None and not is_name(first):
-        raise InvalidColour(first)
+    check_first(first)
     colour = first
     for deed in row.deeds():
         colour = shown_behind(deed, patch, colour)
     return colour
+
+
+def turned(colour, deeds):
+    """Return what the turns among deeds make of a colour."""
+    for deed in deeds:
+        if deed[0] == "turn":
+            colour = shown_behind(deed, [], colour)
+    return colour
+
+
+def in_order(things):
+    """Return all that points can show, each once: None for blank first, then the colours, rising."""
+    colours = sorted({thing for thing in things if thing is not None})
+    return [None] + colours if None in things else colours
 
 
 def new_colour(used):

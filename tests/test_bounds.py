@@ -1,6 +1,5 @@
 """Calls at the bounds end within seconds."""
 
-import random
 import unittest
 from itertools import islice
 
@@ -8,21 +7,8 @@ from coatrows.errors import Contradiction
 from coatrows.facts import Facts
 from coatrows.rows import Row, first_colours, shown
 from tests import plain
+from tests.chance import REGIONS, many_facts
 from tests.checking import Checked
-
-REGIONS = ["r" + chr(97 + at) for at in range(24)]
-
-
-def many_facts(seed, many):
-    """Return many random facts that a hidden patch keeps."""
-    choice = random.Random(seed)
-    hidden = [region for region in REGIONS if choice.random() < 0.5]
-    facts = []
-    while len(facts) < many:
-        fact = (choice.choice(plain.KINDS), choice.choice(REGIONS), choice.choice(REGIONS))
-        if plain.keeps(hidden, fact):
-            facts.append(fact)
-    return hidden, facts
 
 
 class Bounds(Checked):

@@ -29,6 +29,41 @@ ROWS = """
 (6, ('fill', 'green', 'c'), True)
 """
 
+MAPS = """
+>>> from coatrows.maps import drawn, facts_of, first_break, majority
+>>> facts_of(["a", "b"], [[], ["b"], ["a", "b"]]).stated(), majority(["a", "b"], ["a"], ["b"], ["a", "b"])
+([('in', 'a', 'b')], ['a', 'b'])
+>>> facts_of(["a", "b", "c"], drawn(facts)) == facts, first_break(facts, [["b"], ["a"]])
+(True, (1, 0))
+"""
+
+OUTCOMES = """
+>>> from coatrows.outcomes import colours_on, outcomes, possible_outcomes
+>>> outcomes(row, ["a", "b", "c"])[0], len(outcomes(row, ["a", "b", "c"])), len(possible_outcomes(facts, row))
+(('coloured', None, None, [('a', False), ('b', False)], ()), 5, 5)
+>>> colours_on(facts, row, [("b", True)], None), colours_on(facts, row, [], None)
+(['blue', 'red'], [None, 'blue', 'green', 'red'])
+"""
+
+COMPARING = """
+>>> from coatrows.comparing import alike, bare, compared, hidden
+>>> alike(facts, row, swapped), compared(facts, row, swapped), hidden(facts, swapped)
+(False, ('parted', ['a', 'b'], None), [0])
+>>> bare(facts, swapped).deeds()
+[('put', 'red', 'b'), ('fill', 'green', 'c')]
+"""
+
+HANDS = """
+>>> from coatrows.hands import hands_agree, hands_part, helping
+>>> hands_part(facts, Row([("put", "red", "a")]), Row([("put", "blue", "b")]))
+(['a', 'b'], ['blue', 'red'])
+>>> hands_part(facts, Row([("wipe", "b")]), Row([("fill", "red", "b"), ("fill", "blue", "a")]))
+(['b'], [None, 'red'])
+>>> hands_agree(facts, [Row([("put", "red", "a")]), Row([("put", "red", "b")]), Row([("wipe", "c")])])
+>>> helping(facts, row, swapped)
+[('in', 'a', 'c'), ('in', 'b', 'c'), ('apart', 'a', 'a'), ('apart', 'a', 'b'), ('apart', 'b', 'b'), ('cover', 'c', 'c')]
+"""
+
 README = os.path.join(os.path.dirname(os.path.dirname(os.path.abspath(__file__))), "README.md")
 
 
@@ -45,6 +80,18 @@ class Examples(unittest.TestCase):
 
     def test_rows(self):
         self.check(SETTING + ROWS)
+
+    def test_maps(self):
+        self.check(SETTING + MAPS)
+
+    def test_outcomes(self):
+        self.check(SETTING + OUTCOMES)
+
+    def test_comparing(self):
+        self.check(SETTING + COMPARING)
+
+    def test_hands(self):
+        self.check(SETTING + HANDS)
 
     def test_readme(self):
         with open(README, encoding="ascii") as file:
