@@ -97,7 +97,7 @@ def from_above(row):
 def helping(facts, one, other):
     """Return all facts that help two rows, in the order and form of those that follow."""
     check_both(facts, one, other)
-    settled = list(partings(facts, one, other))
+    settled = partings(facts, one, other)
     if not settled:
         return []
     forced = facts.forced()

@@ -82,7 +82,7 @@ def making(regions, patches, patch):
         return []
     where = true_in(regions, patches)
     lying = [where[claim] for claim in numbers_of_patch(regions, patch)]
-    if len(lying) == 1 or not all([one & other for one in lying for other in lying]):
+    if not all([one & other for one in lying for other in lying]):
         return None
     return steps_to(lying, len(patches))
 

@@ -155,6 +155,8 @@ class CompareHolds(Checked):
         self.assertIs(compare_holds(told=told, other=ONE_RED, one=SWAPPED, facts=FACTS), True)
         for thing in (list(told), told + ([],), told[:2], ("parted",) + told[1:], (None,) + told[1:], told[1:]):
             self.assertIs(self.holds(thing), False)
+        for thing in NO_LISTS + [["alike"], Equal()]:
+            self.assertIs(self.holds((thing,) + told[1:]), False)
 
     def test_patches_and_first_colours(self):
         for patch in ALL:
@@ -251,6 +253,10 @@ class CompareHolds(Checked):
         same = Row([("turn", "x", "x")])
         self.assertIs(self.holds(("alike", [[], []], [[], []]), FREE, same, EMPTY), True)
         self.assertIs(self.holds(("alike", [[], []], [[]]), FREE, same, EMPTY), False)
+        for thing in [*NO_LISTS, Equal(), [None], [True], [("a", 1)], [("d", True)], [Equal()], [[]], [("a", True)]]:
+            for paper in ([thing, []], [[], thing]):
+                self.assertIs(self.holds(("alike", paper, [[], []]), FREE, same, EMPTY), False)
+                self.assertIs(self.holds(("alike", [[], []], paper), FREE, same, EMPTY), False)
 
     def test_no_paper_for_rows_that_are_not_alike(self):
         lists = [[outcome[3] for outcome in outcomes(row, ABC)] for row in (ROW, SWAPPED)]
