@@ -5,15 +5,9 @@ from coatrows.comparing import check_both
 from coatrows.errors import TooMany
 from coatrows.parting import none_unlike, partings, settled_outcomes, unlike
 from coatrows.points import FILLING, LASTING, first_fills, lasting, missed
-from coatrows.rows import Row, check_kinds, check_known, in_order
+from coatrows.rows import Row, check_kinds, check_painting, in_order
 
 MOST_DEEDS_OF_HANDS = 12
-
-
-def check_painting(row, kinds, places):
-    """Refuse a row with a deed of another kind, then one of a region that has no place."""
-    check_kinds(row, kinds)
-    check_known(row, places)
 
 
 def shown_by_one(mine, others, places):

@@ -27,12 +27,12 @@ def numbered_outcomes(deeds, places):
     """Return all outcomes of a row of deeds, each with its claims as one number."""
     untouched = missed(deeds, LASTING, places)
     found = [("coloured", None, None, untouched, changes(deeds))]
-    found = found + bare_outcomes(deeds, places, "blank", None, untouched)
+    found.extend(bare_outcomes(deeds, places, "blank", None, untouched))
     for at, deed in enumerate(deeds):
         if deed[0] == "put":
             found.append(("any", at, None, lasting(deeds, at, places), turned(deed[1], deeds[at + 1:])))
         elif deed[0] == "wipe":
-            found = found + bare_outcomes(deeds, places, "any", at, lasting(deeds, at, places))
+            found.extend(bare_outcomes(deeds, places, "any", at, lasting(deeds, at, places)))
     return [outcome for outcome in found if not clash(outcome[3])]
 
 

@@ -54,6 +54,12 @@ def check_kinds(row, kinds):
             raise InvalidDeed(at)
 
 
+def check_painting(row, kinds, places):
+    """Refuse a row with a deed of another kind, then one of a region that has no place."""
+    check_kinds(row, kinds)
+    check_known(row, places)
+
+
 class Row:
     """A row of deeds, which are done in order."""
 

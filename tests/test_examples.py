@@ -64,6 +64,42 @@ HANDS = """
 [('in', 'a', 'c'), ('in', 'b', 'c'), ('apart', 'a', 'a'), ('apart', 'a', 'b'), ('apart', 'b', 'b'), ('cover', 'c', 'c')]
 """
 
+MOVES = """
+>>> from coatrows.moves import covers, moves, moves_hold
+>>> paints = Row([("put", "blue", "a"), ("put", "red", "b")])
+>>> covers(facts, paints, 0), covers(facts, paints, 1)
+([1], None)
+>>> moves_hold(facts, paints, Row([("put", "red", "b")]), [("take",)])
+True
+"""
+
+DECIDING = """
+>>> from coatrows.deciding import alike_on, deciding, needing
+>>> deciding(facts), alike_on(deciding(facts), row, swapped)
+([[], ['c'], ['b'], ['a', 'b']], False)
+>>> one, other = needing(facts, ["b"])
+>>> alike_on([[], ["c"], ["a", "b"]], one, other), alike_on([["b"]], one, other)
+(True, False)
+"""
+
+SHEET = """
+>>> from coatrows.sheet import Sheet
+>>> sheet = Sheet(facts)
+>>> sheet["b"] = "red"
+>>> sheet["a"] = "blue"
+>>> sheet["b"], sheet["a"], len(sheet.row)
+(['blue', 'red'], ['blue'], 2)
+>>> sheet.undo()
+>>> sheet["b"], sheet.row.deeds()
+(['red'], [('put', 'red', 'b')])
+"""
+
+TEXT = """
+>>> from coatrows.text import fact_text, read_row, row_text
+>>> row_text(row), fact_text(("in", "a", "b")), read_row("wipe on; wipe on on").deeds()
+('red on b; blue on a; green under c', 'a in b', [('wipe', 'on'), ('put', 'wipe', 'on')])
+"""
+
 README = os.path.join(os.path.dirname(os.path.dirname(os.path.abspath(__file__))), "README.md")
 
 
@@ -92,6 +128,18 @@ class Examples(unittest.TestCase):
 
     def test_hands(self):
         self.check(SETTING + HANDS)
+
+    def test_moves(self):
+        self.check(SETTING + MOVES)
+
+    def test_deciding(self):
+        self.check(SETTING + DECIDING)
+
+    def test_sheet(self):
+        self.check(SETTING + SHEET)
+
+    def test_text(self):
+        self.check(SETTING + TEXT)
 
     def test_readme(self):
         with open(README, encoding="ascii") as file:

@@ -23,6 +23,9 @@ FUNCTIONS = {
     "hands": {
         "hands_part": "facts one other", "hands_agree": "facts rows", "from_above": "row", "helping": "facts one other",
     },
+    "moves": {"covers": "facts row index", "moves": "facts one other", "moves_hold": "facts one other told"},
+    "deciding": {"deciding": "facts", "needing": "facts patch", "alike_on": "patches one other"},
+    "text": {"fact_text": "fact", "read_facts": "regions lines", "row_text": "row", "read_row": "text"},
 }
 METHODS = {
     "facts": {
@@ -36,6 +39,12 @@ METHODS = {
         "Row": {
             "__init__": "deeds", "deeds": "", "regions": "", "colours": "", "without": "index", "__getitem__": "at",
             "__len__": "", "__add__": "other", "__eq__": "other",
+        },
+    },
+    "sheet": {
+        "Sheet": {
+            "__init__": "facts", "__setitem__": "at worth", "__getitem__": "at", "__iadd__": "other", "__iter__": "",
+            "undo": "", "trial": "", "tried": "row", "learn": "fact",
         },
     },
 }
@@ -66,6 +75,11 @@ class Interface(unittest.TestCase):
                 for method, arguments in methods.items():
                     told = inspect.signature(vars(getattr(module, kind))[method]).parameters.values()
                     self.assertEqual([argument.name for argument in told], ["self"] + arguments.split())
+
+    def test_properties(self):
+        sheet = importlib.import_module("coatrows.sheet").Sheet
+        for name in ("row", "facts"):
+            self.assertIsInstance(vars(sheet)[name], property)
 
 
 if __name__ == "__main__":
