@@ -5,8 +5,8 @@ Inside this module rows are lists of puts and wipes, also of more than 30 deeds.
 
 from coatrows.checks import is_index
 from coatrows.claims import clash
+from coatrows.comparing import leave_the_same
 from coatrows.errors import InvalidNumber
-from coatrows.parting import none_unlike, settled_outcomes
 from coatrows.points import LASTING
 from coatrows.rows import check_painting, is_deed
 
@@ -51,10 +51,11 @@ def moves(facts, one, other):
     """Return steps that lead from one row to another one, None if the rows are not alike."""
     for row in (one, other):
         check_painting(row, LASTING, facts.places())
-    if not none_unlike(settled_outcomes(facts, one), settled_outcomes(facts, other)):
+    if not leave_the_same(facts, one, other):
         return None
-    # Rows that are alike reach the same points, so each of them covers all deeds ahead of it.
+    # Rows that are alike reach the same points: so either of them covers all deeds that stand ahead of it.
     steps = [("lay", deed) for deed in other.deeds()[::-1]]
+    # Where a deed meets one of the other row and none is behind them, both are last ones, and leave the same.
     for place in range(len(one)):
         steps = steps + [("swap", place + ahead) for ahead in range(len(other) - 1, -1, -1)]
     return steps + [("take",)] * len(one)
